@@ -1,0 +1,34 @@
+"""The legal orders of a plan and their chains."""
+
+from stackorder.clauses import chained
+from stackorder.kinds import is_name
+from stackorder.starts import needs_of, next_names
+
+
+def orders_after(needs, done):
+    """Yields the legal orders that begin with the names in done, ascending."""
+    if len(done) == len(needs):
+        yield done
+    for name in next_names(needs, done):
+        longer = done + (name,)
+        yield from orders_after(needs, longer)
+
+
+def orders_of(plan):
+    needs = needs_of(plan)
+    yield from orders_after(needs, ())
+
+
+def is_legal(plan, thing):
+    if not isinstance(thing, tuple) or not all([is_name(name) for name in thing]):
+        return False
+    needs = needs_of(plan)
+    if sorted(thing) != list(needs):
+        return False
+    return all([first in thing[:k] for k, name in enumerate(thing) for first in needs[name]])
+
+
+def chain_of(plan, order):
+    named = {name: clause for name, clause, _ in plan[0]}
+    clauses = [named[name] for name in order]
+    return chained(*clauses)
