@@ -35,7 +35,7 @@ def clause_of(**named):
     for name in sorted(named):
         if name not in CLAUSE_NAMES:
             raise UnknownName(name)
-    factor, plus, low, high = [named.get(name, worth) for name, worth in zip(CLAUSE_NAMES, UNCHANGED)]
+    factor, plus, low, high = [named.get(part, worth) for part, worth in zip(CLAUSE_NAMES, UNCHANGED)]
     return normal_form(factor, plus, low=low, high=high)
 
 

@@ -16,6 +16,7 @@ class ClauseTexts(unittest.TestCase):
     def test_results_of_any_size(self):
         self.assertEqual(fraction_text((10 ** 60, 1)), "1" + "0" * 60)
         self.assertEqual(fraction_text((-(10 ** 120) - 7, 1)), "-1" + "0" * 119 + "7")
+        self.assertEqual(fraction_text((-(10 ** 5000), 3)), "-1" + "0" * 5000 + "/3")
         self.assertEqual(fraction_text((10 ** 5000 + 3, 10 ** 5000)), "1" + "0" * 4999 + "3/1" + "0" * 5000)
         chain = chained(*[((10 ** 12, 1), (0, 1), None, None)] * 400)
         self.assertEqual(clause_text(chain), "1" + "0" * 4800 + ",0,-,-")

@@ -20,6 +20,7 @@ class PlanChecker(unittest.TestCase):
             self.assertEqual(lets_plan(plan), number)
             self.assertIs(type(lets_plan(plan)), int)
         self.assertEqual(lets_plan(named_plan(["r" + letter for letter in "abcdefghijkl"])), 12)
+        self.assertEqual(lets_plan(named_plan(["r" + letter for letter in "abcdefghijklmno"])), 15)
 
     def test_shape(self):
         for value in (*ODD_VALUES, nested(30), ((A,),), ([A], ()), ((A,), [("a", "a")]), ((list(A),), ()),
