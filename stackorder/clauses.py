@@ -70,15 +70,17 @@ def chained(*clauses):
 
 
 def turns_of(clause):
-    """The amounts at which the clause meets a bound."""
+    """The pair of amounts at which the clause meets its low and its high bound; None for no bound."""
     factor, plus, low, high = clause
-    return [quotient(difference(bound, plus), factor) for bound in (low, high) if bound is not None]
+    turns = [None if bound is None else quotient(difference(bound, plus), factor) for bound in (low, high)]
+    return tuple(turns)
 
 
 def differs_at(one, other):
     # Between the turns both clauses are straight. If they agreed at the turns, and at one more
     # amount on either side, they would agree everywhere.
-    turns = ascending([(0, 1), *turns_of(one), *turns_of(other)])
+    found = [turn for turn in turns_of(one) + turns_of(other) if turn is not None]
+    turns = ascending([(0, 1), *found])
     before = difference(turns[0], (1, 1))
     behind = fraction_sum(turns[-1], (1, 1))
     for amount in [before, *turns, behind]:

@@ -1,8 +1,13 @@
-"""Which rules of a plan are active, and which rules follow which."""
+"""The rules of a plan: which are active, what their clauses are, and which follow which."""
 
 
 def active_names(plan):
     return tuple([name for name, _, is_on in plan[0] if is_on])
+
+
+def clauses_of(plan):
+    """A dict from the name of each rule to its clause."""
+    return {name: clause for name, clause, _ in plan[0]}
 
 
 def seconds_of(pairs):

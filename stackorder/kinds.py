@@ -22,6 +22,11 @@ def is_name(thing):
     return all(["a" <= letter <= "z" for letter in thing])
 
 
+def are_names(thing):
+    """Whether the value is a tuple of names, possibly empty."""
+    return isinstance(thing, tuple) and all([is_name(name) for name in thing])
+
+
 def is_row(thing, size):
     """Whether the value is a tuple of exactly so many elements."""
     return isinstance(thing, tuple) and len(thing) == size

@@ -1,7 +1,8 @@
 """The legal orders of a plan and their chains."""
 
 from stackorder.clauses import chained
-from stackorder.kinds import is_name
+from stackorder.follows import clauses_of
+from stackorder.kinds import are_names
 from stackorder.starts import needs_of, next_names
 
 
@@ -20,7 +21,7 @@ def orders_of(plan):
 
 
 def is_legal(plan, thing):
-    if not isinstance(thing, tuple) or not all([is_name(name) for name in thing]):
+    if not are_names(thing):
         return False
     needs = needs_of(plan)
     if sorted(thing) != list(needs):
@@ -29,6 +30,6 @@ def is_legal(plan, thing):
 
 
 def chain_of(plan, order):
-    named = {name: clause for name, clause, _ in plan[0]}
+    named = clauses_of(plan)
     clauses = [named[name] for name in order]
     return chained(*clauses)

@@ -16,6 +16,21 @@ def next_names(needs, start):
     return [name for name in outside if all([first in start for first in needs[name]])]
 
 
+def last_names(needs, start):
+    """The ascending list of the names of the start that no other one of it needs."""
+    return [name for name in start if not any([name in needs[other] for other in start])]
+
+
+def grown(start, name):
+    """The start with the name, too."""
+    return tuple(sorted([*start, name]))
+
+
+def without(start, name):
+    """The start without the name."""
+    return tuple([other for other in start if other != name])
+
+
 def starts_of(plan):
     needs = needs_of(plan)
     found = {(): True}
@@ -23,7 +38,7 @@ def starts_of(plan):
     while waiting:
         start = waiting.pop()
         for name in next_names(needs, start):
-            longer = tuple(sorted([*start, name]))
+            longer = grown(start, name)
             if longer not in found:
                 found[longer] = True
                 waiting.append(longer)
@@ -35,5 +50,4 @@ def next_after(plan, start):
 
 
 def last_of(plan, start):
-    needs = needs_of(plan)
-    return tuple([name for name in start if not any([name in needs[other] for other in start])])
+    return tuple(last_names(needs_of(plan), start))

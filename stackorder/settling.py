@@ -1,0 +1,48 @@
+"""Plans with answers to questions, and the sets of questions that settle the outcome of an amount."""
+
+from stackorder.clauses import applied
+from stackorder.errors import InvalidStep, UnknownName
+from stackorder.follows import active_names, reached_from, seconds_of
+from stackorder.orders import chain_of, orders_of
+from stackorder.outcomes import outcomes_of, questions_of
+
+
+def check_answers(plan, answers):
+    """Checks each of the answers by itself."""
+    active = active_names(plan)
+    for answer in answers:
+        for name in answer:
+            if name not in active:
+                raise UnknownName(name)
+    questions = questions_of(plan)
+    for answer in answers:
+        if tuple(sorted(answer)) not in questions:
+            raise InvalidStep(answer, "question")
+
+
+def narrowed(plan, *answers):
+    check_answers(plan, answers)
+    rules, pairs = plan
+    joined = tuple(sorted(set(pairs + answers)))
+    # The plan itself has no circle, so each circle leads through an answer.
+    seconds = seconds_of(joined)
+    if any([first in reached_from(seconds, first) for first, _ in answers]):
+        raise InvalidStep(answers, "joint")
+    return (rules, joined)
+
+
+def settled_by(plan, amount, *answers):
+    outcomes = outcomes_of(narrowed(plan, *answers), amount)
+    return outcomes[0] if len(outcomes) == 1 else None
+
+
+def settling_sets(plan, amount):
+    outcomes = {order: applied(chain_of(plan, order), amount) for order in orders_of(plan)}
+    questions = {}
+    for order in outcomes:
+        for k in range(1, len(order)):
+            exchanged = order[:k - 1] + (order[k], order[k - 1]) + order[k + 1:]
+            if exchanged in outcomes and outcomes[exchanged] != outcomes[order]:
+                questions[tuple(sorted(order[k - 1:k + 1]))] = True
+    # A question is needed exactly if neighbours show it, so there is one minimal set.
+    return (tuple(sorted(questions)),)
