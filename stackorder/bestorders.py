@@ -6,6 +6,7 @@ stands for the amounts far to the right (side 1) or far to the left (side -1), w
 
 from stackorder.clauses import line_value
 from stackorder.fractions import compared, fraction_product
+from stackorder.ways import longer_starts
 
 IDENTITY_LINE = ((1, 1), (0, 1))
 
@@ -34,7 +35,7 @@ def best_order(ways, line, side, sign):
     """A legal order with the least (sign -1) or the greatest (sign 1) outcomes of the line, far out on the side."""
     # Clauses never decrease, so of the orders of a start the best one is enough.
     best = {(): (line, ())}
-    for start in sorted(ways, key=len):
+    for start in longer_starts(ways):
         for rest, name, clause in ways[start]:
             reached = line_after(clause, best[rest][0], side)
             if start not in best or compared_far(reached, best[start][0], side) == sign:

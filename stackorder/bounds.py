@@ -45,3 +45,8 @@ def least_at(plan, amount):
 
 def greatest_at(plan, amount):
     return bound_at(plan, amount, GREATEST)
+
+
+def spread_at(plan, amount):
+    """The pair of the least and the greatest outcome of the amount."""
+    return (least_at(plan, amount)[0], greatest_at(plan, amount)[0])

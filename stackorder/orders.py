@@ -29,6 +29,11 @@ def is_legal(plan, thing):
     return all([first in thing[:k] for k, name in enumerate(thing) for first in needs[name]])
 
 
+def is_before(order, one, other):
+    """Whether one stands before other in the order, which has both."""
+    return order.index(one) < order.index(other)
+
+
 def chain_of(plan, order):
     named = clauses_of(plan)
     clauses = [named[name] for name in order]

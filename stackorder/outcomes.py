@@ -3,16 +3,30 @@
 from stackorder.clauses import applied
 from stackorder.follows import active_names, follows_of
 from stackorder.fractions import ascending
-from stackorder.ways import ways_of
+from stackorder.orders import chain_of, orders_of
+from stackorder.ways import longer_starts, ways_of
+
+
+def made_along(ways, made, start):
+    """The list of what each last rule of the start makes of each value that is made before it."""
+    return [applied(clause, value) for rest, _, clause in ways[start] for value in made[rest]]
+
+
+def values_made(ways, amount):
+    """A dict from each start to the ascending list of the values that its rules can make of the amount."""
+    made = {(): [amount]}
+    for start in longer_starts(ways):
+        made[start] = ascending(made_along(ways, made, start))
+    return made
 
 
 def outcomes_of(plan, amount):
-    ways = ways_of(plan)
-    made = {(): [amount]}
-    for start in sorted(ways, key=len)[1:]:
-        values = [applied(clause, value) for rest, _, clause in ways[start] for value in made[rest]]
-        made[start] = ascending(values)
-    return tuple(made[active_names(plan)])
+    return tuple(values_made(ways_of(plan), amount)[active_names(plan)])
+
+
+def outcomes_by_order(plan, amount):
+    """A dict from each legal order, ascending, to its outcome of the amount."""
+    return {order: applied(chain_of(plan, order), amount) for order in orders_of(plan)}
 
 
 def questions_of(plan):

@@ -1,10 +1,9 @@
 """Plans with answers to questions, and the sets of questions that settle the outcome of an amount."""
 
-from stackorder.clauses import applied
 from stackorder.errors import InvalidStep, UnknownName
 from stackorder.follows import active_names, reached_from, seconds_of
-from stackorder.orders import chain_of, orders_of
-from stackorder.outcomes import outcomes_of, questions_of
+from stackorder.orders import is_before, orders_of
+from stackorder.outcomes import outcomes_by_order, outcomes_of, questions_of
 
 
 def check_answers(plan, answers):
@@ -31,18 +30,36 @@ def narrowed(plan, *answers):
     return (rules, joined)
 
 
+def answers_of(order, questions):
+    """The tuple of the order's answers to the questions."""
+    return tuple([question if is_before(order, *question) else question[::-1] for question in questions])
+
+
+def joint_answers(plan, questions):
+    """The ascending list of all choices of joint answers, one for each question."""
+    return sorted({answers_of(order, questions) for order in orders_of(plan)})
+
+
 def settled_by(plan, amount, *answers):
     outcomes = outcomes_of(narrowed(plan, *answers), amount)
     return outcomes[0] if len(outcomes) == 1 else None
 
 
-def settling_sets(plan, amount):
-    outcomes = {order: applied(chain_of(plan, order), amount) for order in orders_of(plan)}
-    questions = {}
+def settling_reasons(plan, amount):
+    """A dict from each question of the minimal settling set to two orders that show that it is needed.
+
+    A question is needed exactly if neighbours show it: the orders differ only in the order of these two
+    rules, as neighbours, and have different outcomes. So there is one minimal set.
+    """
+    outcomes = outcomes_by_order(plan, amount)
+    reasons = {}
     for order in outcomes:
         for k in range(1, len(order)):
             exchanged = order[:k - 1] + (order[k], order[k - 1]) + order[k + 1:]
             if exchanged in outcomes and outcomes[exchanged] != outcomes[order]:
-                questions[tuple(sorted(order[k - 1:k + 1]))] = True
-    # A question is needed exactly if neighbours show it, so there is one minimal set.
-    return (tuple(sorted(questions)),)
+                reasons[tuple(sorted(order[k - 1:k + 1]))] = (order, exchanged)
+    return reasons
+
+
+def settling_sets(plan, amount):
+    return (tuple(sorted(settling_reasons(plan, amount))),)

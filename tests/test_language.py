@@ -25,7 +25,7 @@ METHODS = set(
     "keys ljust lower lstrip partition pop remove replace reverse rfind rjust rpartition rsplit rstrip setdefault split "
     "splitlines startswith strip update upper values zfill bit_length removeprefix removesuffix add discard".split()
 )
-DUNDERS = {"__init__", "__eq__", "__repr__", "__str__", "__len__"}
+DUNDERS = {"__init__", "__eq__", "__repr__", "__str__", "__len__", "__enter__", "__exit__"}
 BARRED_NAMES = set("register mro elements open input law version_info with_traceback add_note".split())
 BARRED_STATEMENTS = (ast.Global, ast.AsyncFunctionDef, ast.Await, ast.GeneratorExp, ast.Div, ast.Import, ast.NamedExpr)
 
@@ -141,3 +141,34 @@ class Language(unittest.TestCase):
             for sign, side in zip(node.ops, node.comparators):
                 if isinstance(sign, (ast.Is, ast.IsNot)):
                     self.assertIn(ast.unparse(side), ("None", "True", "False"), path)
+
+    def test_what_double_underscore_methods_return(self):
+        for path, node in nodes(ast.FunctionDef):
+            returned = [ast.unparse(row.value) for row in ast.walk(node) if isinstance(row, ast.Return) and row.value is not None]
+            if node.name == "__init__":
+                self.assertEqual(returned, [], path)
+            if node.name == "__len__":
+                self.assertTrue(all(text.startswith("len(") for text in returned), path)
+            if node.name in ("__str__", "__repr__"):
+                self.assertTrue(all(text.startswith(("str(", "repr(", "'", "f'")) for text in returned), path)
+            if node.name in ("__len__", "__str__", "__repr__"):
+                self.assertIsInstance(node.body[-1], ast.Return, path)
+
+    def test_sets_stand_where_they_may(self):
+        # In sorted(..) and len(..), and behind in.
+        for path, tree in TREES.items():
+            allowed = set()
+            for node in ast.walk(tree):
+                if isinstance(node, ast.Call) and isinstance(node.func, ast.Name) and node.func.id in ("sorted", "len"):
+                    allowed |= {id(part) for part in node.args}
+                if isinstance(node, ast.Compare):
+                    allowed |= {id(part) for part in node.comparators}
+            for node in ast.walk(tree):
+                if isinstance(node, (ast.Set, ast.SetComp)) or (isinstance(node, ast.Call) and ast.unparse(node.func) == "set"):
+                    self.assertIn(id(node), allowed, path)
+
+    def test_module_values_name_no_other_values(self):
+        for path, tree in TREES.items():
+            for row in tree.body:
+                if isinstance(row, ast.Assign):
+                    self.assertEqual([node for node in ast.walk(row.value) if isinstance(node, (ast.Name, ast.Call))], [], path)
